@@ -24,6 +24,7 @@ type layer struct {
 // layers are those that are built.
 var layers = []layer{
 	{"octet", "", "range-integer variadic shift"},
+	{"sha", "octet", "array range-function"},
 }
 
 var library = "bytes cmp container/heap errors iter maps math math/bits slices sort strconv strings sync sync/atomic unicode unicode/utf8"
