@@ -25,6 +25,7 @@ type layer struct {
 var layers = []layer{
 	{"octet", "", "range-integer variadic shift"},
 	{"sha", "octet", "array range-function"},
+	{"mac", "octet sha", "variadic range-function closure"},
 }
 
 var library = "bytes cmp container/heap errors iter maps math math/bits slices sort strconv strings sync sync/atomic unicode unicode/utf8"
