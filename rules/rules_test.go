@@ -26,6 +26,7 @@ var layers = []layer{
 	{"octet", "", "range-integer variadic shift"},
 	{"sha", "octet", "array range-function"},
 	{"mac", "octet sha", "variadic range-function closure"},
+	{"chacha", "octet", "array array-compared method-expression"},
 }
 
 var library = "bytes cmp container/heap errors iter maps math math/bits slices sort strconv strings sync sync/atomic unicode unicode/utf8"
