@@ -27,6 +27,7 @@ var layers = []layer{
 	{"sha", "octet", "array range-function"},
 	{"mac", "octet sha", "variadic range-function closure"},
 	{"chacha", "octet", "array array-compared method-expression"},
+	{"poly", "octet", "array array-compared range-function"},
 }
 
 var library = "bytes cmp container/heap errors iter maps math math/bits slices sort strconv strings sync sync/atomic unicode unicode/utf8"
