@@ -28,6 +28,7 @@ var layers = []layer{
 	{"mac", "octet sha", "variadic range-function closure"},
 	{"chacha", "octet", "array array-compared method-expression"},
 	{"poly", "octet", "array array-compared range-function"},
+	{"aead", "octet chacha poly", "errors-as closure variadic"},
 }
 
 var library = "bytes cmp container/heap errors iter maps math math/bits slices sort strconv strings sync sync/atomic unicode unicode/utf8"
