@@ -29,6 +29,7 @@ var layers = []layer{
 	{"chacha", "octet", "array array-compared method-expression"},
 	{"poly", "octet", "array array-compared range-function"},
 	{"aead", "octet chacha poly", "errors-as closure variadic"},
+	{"tree", "", "struct-compared fallthrough panic recover defer range-function"},
 }
 
 var library = "bytes cmp container/heap errors iter maps math math/bits slices sort strconv strings sync sync/atomic unicode unicode/utf8"
