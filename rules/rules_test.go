@@ -30,6 +30,7 @@ var layers = []layer{
 	{"poly", "octet", "array array-compared range-function"},
 	{"aead", "octet chacha poly", "errors-as closure variadic"},
 	{"tree", "", "struct-compared fallthrough panic recover defer range-function"},
+	{"order", "tree", "heap embedding promoted method-value method-expression variadic"},
 }
 
 var library = "bytes cmp container/heap errors iter maps math math/bits slices sort strconv strings sync sync/atomic unicode unicode/utf8"
