@@ -31,6 +31,7 @@ var layers = []layer{
 	{"aead", "octet chacha poly", "errors-as closure variadic"},
 	{"tree", "", "struct-compared fallthrough panic recover defer range-function"},
 	{"order", "tree", "heap embedding promoted method-value method-expression variadic"},
+	{"parse", "tree", "panic recover defer errors-as range-map fallthrough closure"},
 }
 
 var library = "bytes cmp container/heap errors iter maps math math/bits slices sort strconv strings sync sync/atomic unicode unicode/utf8"
