@@ -32,6 +32,7 @@ var layers = []layer{
 	{"tree", "", "struct-compared fallthrough panic recover defer range-function"},
 	{"order", "tree", "heap embedding promoted method-value method-expression variadic"},
 	{"parse", "tree", "panic recover defer errors-as range-map fallthrough closure"},
+	{"show", "tree", "embedding promoted closure method-value"},
 }
 
 var library = "bytes cmp container/heap errors iter maps math math/bits slices sort strconv strings sync sync/atomic unicode unicode/utf8"
