@@ -33,6 +33,7 @@ var layers = []layer{
 	{"order", "tree", "heap embedding promoted method-value method-expression variadic"},
 	{"parse", "tree", "panic recover defer errors-as range-map fallthrough closure"},
 	{"show", "tree", "embedding promoted closure method-value"},
+	{"path", "tree", "closure struct-compared interface interface-call"},
 }
 
 var library = "bytes cmp container/heap errors iter maps math math/bits slices sort strconv strings sync sync/atomic unicode unicode/utf8"
