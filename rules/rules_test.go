@@ -34,6 +34,7 @@ var layers = []layer{
 	{"parse", "tree", "panic recover defer errors-as range-map fallthrough closure"},
 	{"show", "tree", "embedding promoted closure method-value"},
 	{"path", "tree", "closure struct-compared interface interface-call"},
+	{"code", "octet tree", "method-value array panic recover defer range-function"},
 }
 
 var library = "bytes cmp container/heap errors iter maps math math/bits slices sort strconv strings sync sync/atomic unicode unicode/utf8"
