@@ -35,6 +35,7 @@ var layers = []layer{
 	{"show", "tree", "embedding promoted closure method-value"},
 	{"path", "tree", "closure struct-compared interface interface-call"},
 	{"code", "octet tree", "method-value array panic recover defer range-function"},
+	{"pad", "octet", "range-function shift closure"},
 }
 
 var library = "bytes cmp container/heap errors iter maps math math/bits slices sort strconv strings sync sync/atomic unicode unicode/utf8"
