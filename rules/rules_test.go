@@ -36,6 +36,7 @@ var layers = []layer{
 	{"path", "tree", "closure struct-compared interface interface-call"},
 	{"code", "octet tree", "method-value array panic recover defer range-function"},
 	{"pad", "octet", "range-function shift closure"},
+	{"keys", "octet mac code", "map map-of-arrays variadic method-value"},
 }
 
 var library = "bytes cmp container/heap errors iter maps math math/bits slices sort strconv strings sync sync/atomic unicode unicode/utf8"
