@@ -37,6 +37,7 @@ var layers = []layer{
 	{"code", "octet tree", "method-value array panic recover defer range-function"},
 	{"pad", "octet", "range-function shift closure"},
 	{"keys", "octet mac code", "map map-of-arrays variadic method-value"},
+	{"orac", "octet mac aead", "interface interface-call array map array-compared embedding promoted"},
 }
 
 var library = "bytes cmp container/heap errors iter maps math math/bits slices sort strconv strings sync sync/atomic unicode unicode/utf8"
