@@ -320,7 +320,8 @@ func (p pack) selection(x *ast.SelectorExpr, got map[string]bool, called map[ast
 		if !called[x] {
 			got["method-value"] = true
 		}
-		if types.IsInterface(s.Recv()) {
+		f, ok := s.Obj().(*types.Func)
+		if types.IsInterface(s.Recv()) || ok && types.IsInterface(f.Signature().Recv().Type()) {
 			got["interface-call"] = true
 		}
 	}
