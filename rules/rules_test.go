@@ -39,6 +39,7 @@ var layers = []layer{
 	{"keys", "octet mac code", "map map-of-arrays variadic method-value"},
 	{"orac", "octet mac aead", "interface interface-call array map array-compared embedding promoted"},
 	{"term", "tree path code", "range-function map delete generic-function closure"},
+	{"chain", "octet keys orac", "range-function map delete interface-call method-value"},
 }
 
 var library = "bytes cmp container/heap errors iter maps math math/bits slices sort strconv strings sync sync/atomic unicode unicode/utf8"
