@@ -40,6 +40,7 @@ var layers = []layer{
 	{"orac", "octet mac aead", "interface interface-call array map array-compared embedding promoted"},
 	{"term", "tree path code", "range-function map delete generic-function closure"},
 	{"chain", "octet keys orac", "range-function map delete interface-call method-value"},
+	{"vault", "octet sha code", "method-expression closure method-value array panic recover defer"},
 }
 
 var library = "bytes cmp container/heap errors iter maps math math/bits slices sort strconv strings sync sync/atomic unicode unicode/utf8"
