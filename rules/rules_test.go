@@ -42,6 +42,7 @@ var layers = []layer{
 	{"chain", "octet keys orac", "range-function map delete interface-call method-value"},
 	{"vault", "octet sha code", "method-expression closure method-value array panic recover defer"},
 	{"wire", "octet code chain vault", "fallthrough generic-function closure variadic"},
+	{"disk", "", "closure three-index"},
 }
 
 var library = "bytes cmp container/heap errors iter maps math math/bits slices sort strconv strings sync sync/atomic unicode unicode/utf8"
