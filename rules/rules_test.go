@@ -43,6 +43,7 @@ var layers = []layer{
 	{"vault", "octet sha code", "method-expression closure method-value array panic recover defer"},
 	{"wire", "octet code chain vault", "fallthrough generic-function closure variadic"},
 	{"disk", "", "closure three-index"},
+	{"host", "orac chain vault wire disk", "method-value array errors-as defer"},
 }
 
 var library = "bytes cmp container/heap errors iter maps math math/bits slices sort strconv strings sync sync/atomic unicode unicode/utf8"
