@@ -44,6 +44,7 @@ var layers = []layer{
 	{"wire", "octet code chain vault", "fallthrough generic-function closure variadic"},
 	{"disk", "", "closure three-index"},
 	{"host", "orac chain vault wire disk", "method-value array errors-as defer"},
+	{"query", "tree order path term", "method-value generic-function closure heap"},
 }
 
 var library = "bytes cmp container/heap errors iter maps math math/bits slices sort strconv strings sync sync/atomic unicode unicode/utf8"
