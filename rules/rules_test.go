@@ -46,6 +46,7 @@ var layers = []layer{
 	{"host", "orac chain vault wire disk", "method-value array errors-as defer"},
 	{"query", "tree order path term", "method-value generic-function closure heap"},
 	{"model", "tree parse path code pad query", "method-expression array embedding promoted errors-as"},
+	{"plan", "tree term query", "generic-function closure fallthrough map"},
 }
 
 var library = "bytes cmp container/heap errors iter maps math math/bits slices sort strconv strings sync sync/atomic unicode unicode/utf8"
