@@ -48,6 +48,7 @@ var layers = []layer{
 	{"model", "tree parse path code pad query", "method-expression array embedding promoted errors-as"},
 	{"plan", "tree term query", "generic-function closure fallthrough map"},
 	{"client", "octet code pad keys orac term chain vault wire query model plan", "function-field closure embedding promoted map struct-compared delete"},
+	{"script", "code orac vault host model client", "method-value map method-expression range-function embedding promoted"},
 }
 
 var library = "bytes cmp container/heap errors iter maps math math/bits slices sort strconv strings sync sync/atomic unicode unicode/utf8"
