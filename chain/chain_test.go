@@ -198,7 +198,7 @@ func filled(h orac.Handle, ids ...string) (chain.Word, []string) {
 func TestIds(t *testing.T) {
 	for name, handle := range handles() {
 		for _, x := range []struct{ acts, want string }{
-			{"", ""}, {"a", "a"}, {"b a", "a b"}, {"a b -a", "b"}, {"a -a", ""}, {"a -a a", "a"}, {"a a -a", ""}, {"-a", ""}, {"-a a", "a"}, {"a ? b ? -a ? c", "b c"}, {"? a ? ? -b ? b", "a b"}, {"c a b a", "a b c"},
+			{"", ""}, {"a", "a"}, {"b a", "a b"}, {"a b -a", "b"}, {"a -a", ""}, {"a -a a", "a"}, {"a a -a", ""}, {"-a", ""}, {"-a a", "a"}, {"a ? b ? -a ? c", "b c"}, {"? a ? ? -b ? b", "a b"}, {"c a b a", "a b c"}, {"sixteen-bytes-id a -a", "sixteen-bytes-id"}, {"sixteen-bytes-id -sixteen-bytes-id", ""},
 		} {
 			h := handle()
 			w, boxes := filled(h, strings.Fields(x.acts)...)

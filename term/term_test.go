@@ -33,8 +33,8 @@ func words(t *testing.T, pairs ...string) []string {
 }
 
 func TestElements(t *testing.T) {
-	v := sample.Value(`{"a":[1,"x",[2],{"b":3},null,1],"b":{"c":4},"c":[{"d":5},{"d":[6,7,[8],{"e":9}]},[{"d":10}],{"d":{"f":11}}],"d":true}`)
-	for p, want := range map[string]string{"a": `[1,"x",null,1]`, "b": `[]`, "b.c": `[4]`, "c": `[]`, "c.d": `[5,6,7]`, "d": `[true]`, "a[0]": `[1]`, "a[2]": `[2]`, "a[2][0]": `[2]`, "a.b": `[3]`, "": `[]`, "x": `[]`, "d.x": `[]`, "a[9]": `[]`} {
+	v := sample.Value(`{"a":[1,"x",[2],{"b":3},null,1],"b":{"c":4},"c":[{"d":5},{"d":[6,7,[8],{"e":9}]},[{"d":10}],{"d":{"f":11}},{"d":[]},{"d":12}],"d":true}`)
+	for p, want := range map[string]string{"a": `[1,"x",null,1]`, "b": `[]`, "b.c": `[4]`, "c": `[]`, "c.d": `[5,6,7,12]`, "d": `[true]`, "a[0]": `[1]`, "a[2]": `[2]`, "a[2][0]": `[2]`, "a.b": `[3]`, "": `[]`, "x": `[]`, "d.x": `[]`, "a[9]": `[]`} {
 		got, err := term.Elements(v, p)
 		if err != api.OK || !slices.Equal(sample.List(got...), sample.Value(want)) {
 			t.Errorf("%q: %v, %v", p, got, err)

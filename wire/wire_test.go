@@ -54,13 +54,13 @@ func noRequests() []request {
 	}
 	for kind := range 4 {
 		if kind != 0 {
-			l = append(l, request{Kind: kind, Ops: ops})
+			l = append(l, request{Kind: kind, Ops: ops}, request{Kind: kind, Ops: ops[:1]})
 		}
 		if kind != 1 {
 			l = append(l, request{Kind: kind, Label: "a"})
 		}
 		if kind != 2 {
-			l = append(l, request{Kind: kind, Tokens: some})
+			l = append(l, request{Kind: kind, Tokens: some}, request{Kind: kind, Tokens: some[:1]})
 		}
 	}
 	return append(l, request{Kind: 0, Ops: ops, Label: "a"}, request{Kind: 0, Ops: ops, Tokens: some}, request{Kind: 1, Label: "a", Ops: ops}, request{Kind: 1, Label: "a", Tokens: some}, request{Kind: 2, Tokens: some, Ops: ops}, request{Kind: 2, Tokens: some, Label: "a"})
