@@ -407,3 +407,70 @@ func TestBadHandles(t *testing.T) {
 		}
 	}
 }
+
+func TestAWordOfManyCells(t *testing.T) {
+	each(t, func(w *world) {
+		w.want(create("c", "a"))
+		w.want(insert("last", `{"a":1}`))
+		for i := range 170 {
+			w.want(insert("x", `{"a":1}`))
+			if i%60 == 20 {
+				w.want(eq("a", "1"))
+			}
+			w.want(remove("x"))
+		}
+		w.want(eq("a", "1"))
+		w.labels()
+		w.want(rotate)
+		for i := range 4 {
+			w.want(rotate)
+			w.labels()
+			w.want(eq("a", "1"))
+			if len(w.x.State.Cells) != []int{42, 1, 2, 1}[i] {
+				w.t.Errorf("behind step %d: %d cells", i, len(w.x.State.Cells))
+			}
+			if rotating := w.c.State().Rotating; rotating != (i%2 == 0) {
+				w.t.Errorf("behind step %d: %v", i, rotating)
+			}
+			if i == 1 {
+				w.want(insert("y", `{"b":1}`))
+				w.want(remove("y"))
+			}
+		}
+	})
+}
+
+func TestManySearches(t *testing.T) {
+	each(t, func(w *world) {
+		w.want(create("c", "a"))
+		for i := range 24 {
+			w.want(insert(strconv.Itoa(i), `{"a":[1,`+strconv.Itoa(i)+`]}`))
+			w.want(eq("a", "1"))
+			w.labels()
+		}
+		w.want(remove("3"))
+		w.want(eq("a", "1"))
+		w.labels()
+	})
+}
+
+func TestABatchOfManyWords(t *testing.T) {
+	w := newWorld(t, orac.Real())
+	w.want(create("c", "a.b.c", "a[0].b.c", "a.b[0].c", "a[0].b[0].c"))
+	text := func(n int) string {
+		var l []string
+		for i := range n {
+			l = append(l, strconv.Itoa(i))
+		}
+		return `{"a":[{"b":[{"c":[` + strings.Join(l, ",") + `]}]}]}`
+	}
+	w.want(insert("1", text(99)))
+	if n := len(w.seen[0].Ops); n != 397 {
+		t.Errorf("%d ops", n)
+	}
+	w.want(eq("a.b.c", "98"))
+	w.labels()
+	w.do(insert("2", text(111)))
+	w.labels()
+	w.want(tell("1"))
+}
