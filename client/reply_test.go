@@ -414,7 +414,7 @@ func TestAWordOfManyCells(t *testing.T) {
 		w.want(insert("last", `{"a":1}`))
 		for i := range 170 {
 			w.want(insert("x", `{"a":1}`))
-			if i%60 == 20 {
+			if i == 20 {
 				w.want(eq("a", "1"))
 			}
 			w.want(remove("x"))
@@ -451,6 +451,16 @@ func TestManySearches(t *testing.T) {
 		w.want(remove("3"))
 		w.want(eq("a", "1"))
 		w.labels()
+		for range 3 {
+			w.until(insert("x", `{"a":[1,30]}`), 1)
+			w.c.Lost()
+			w.want(resync)
+		}
+		w.want(insert("x", `{"a":[1,30]}`))
+		w.want(eq("a", "1"))
+		w.want(rotate)
+		w.want(eq("a", "1"))
+		w.labels()
 	})
 }
 
@@ -470,6 +480,12 @@ func TestABatchOfManyWords(t *testing.T) {
 	}
 	w.want(eq("a.b.c", "98"))
 	w.labels()
+	most := strings.Replace(text(99), `98]}]}`, `98]},{"c":[99]}]},{"b":[{},{"c":[100]}]}`, 1)
+	w.want(insert("3", most))
+	if n := len(w.seen[0].Ops); n != 400 {
+		t.Errorf("%d ops", n)
+	}
+	w.want(eq("a.b.c", "100"))
 	w.do(insert("2", text(111)))
 	w.labels()
 	w.want(tell("1"))
