@@ -34,8 +34,8 @@ func (r *reader) take(n int) string {
 	return r.s[r.at-n : r.at]
 }
 
-// byte is the byte here, and goes on behind it.
-func (r *reader) byte() byte { return r.take(1)[0] }
+// single is the byte here, and goes on behind it.
+func (r *reader) single() byte { return r.take(1)[0] }
 
 // pieces are a text's parts between its bytes 0, and behind each how many bytes of s tell it, and that byte 0; the last one ends the text.
 func pieces(s string) iter.Seq2[string, int] {
@@ -73,11 +73,11 @@ func (r *reader) text() string {
 
 // node reads a node, but for what stands behind it.
 func (r *reader) node() api.Node {
-	n := api.Node{Kind: api.Kind(r.byte()) - 1}
+	n := api.Node{Kind: api.Kind(r.single()) - 1}
 	switch n.Kind {
 	case api.Null, api.List, api.Map:
 	case api.Bool:
-		n.Num = int64(r.byte())
+		n.Num = int64(r.single())
 		if n.Num > 1 {
 			panic(giveUp{})
 		}
