@@ -204,13 +204,13 @@ func (k keyring) document(id, box string) ([]api.Node, int) {
 
 func TestNew(t *testing.T) {
 	w := newWorld(t, orac.Ideal("tape"))
-	if w.c.State() != (client.State{Head: vault.New().Head}) || w.h.Used() != 0 {
+	if w.c.State() != (client.State{Head: vault.New().Head}) {
 		t.Errorf("%v", w.c.State())
 	}
 	w.labels()
 	w.want(create("c"))
 	w.want(create("c"))
-	if w.h.Used() != 0 || w.kinds() != "" {
+	if w.kinds() != "" {
 		t.Error("a collection is asked for")
 	}
 }

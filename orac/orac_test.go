@@ -78,12 +78,6 @@ func TestRealBad(t *testing.T) {
 		}
 	}
 	h := orac.Real()
-	h.Seal("", "a", "", "x")
-	h.Seal("", "b", "", "x")
-	if !h.Bad() {
-		t.Error("the empty text answers two questions")
-	}
-	h = orac.Real()
 	h.Mac(key, "x")
 	h.Mac(key+"\x00", "x") // a key is filled up by bytes 0: both have one sum
 	if !h.Bad() {

@@ -231,7 +231,7 @@ func TestTheTrace(t *testing.T) {
 
 func TestRunOfNothingAndOfTooMuch(t *testing.T) {
 	tr := script.Run("", false, "key", nil)
-	if len(tr.Answers)+len(tr.View)+len(tr.Replies)+tr.Used != 0 || tr.Bad || !host.Same(tr.Host, host.New(-1)) || tr.Client != client.New(orac.Real(), "").State() || script.View(tr) != "" {
+	if len(tr.Answers)+len(tr.View)+len(tr.Replies) != 0 || tr.Bad || !host.Same(tr.Host, host.New(-1)) || tr.Client != client.New(orac.Real(), "").State() || script.View(tr) != "" {
 		t.Errorf("%v", tr)
 	}
 	l := steps(4, 130, honest)

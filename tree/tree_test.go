@@ -59,16 +59,15 @@ func bad() map[string]struct {
 	}
 	long := strings.Repeat("x", 121)
 	return map[string]x{
-		"too many nodes":             {sample.Wide(121), api.ErrLarge},
-		"too many that are nothing":  {make([]api.Node, 121), api.ErrLarge},
-		"too long a text":            {sample.Text(long), api.ErrLarge},
-		"too long a key":             {sample.Map(sample.Pair(long, sample.Null())), api.ErrLarge},
-		"too long, and nothing":      {append(sample.Text(long), sample.Null()...), api.ErrLarge},
-		"too long where none may be": {[]api.Node{{Kind: api.Num, Text: long}}, api.ErrLarge},
-		"too deep":                   {sample.Deep(33), api.ErrDeep},
-		"too deep in a map":          {sample.Map(sample.Pair("a", sample.Deep(32))), api.ErrDeep},
-		"deep, and nothing":          {append(sample.Deep(40), sample.Null()...), api.ErrArg},
-		"deepest that may be":        {sample.Deep(120), api.ErrDeep},
+		"too many nodes":            {sample.Wide(121), api.ErrLarge},
+		"too many that are nothing": {make([]api.Node, 121), api.ErrLarge},
+		"too long a text":           {sample.Text(long), api.ErrLarge},
+		"too long a key":            {sample.Map(sample.Pair(long, sample.Null())), api.ErrLarge},
+		"too long, and nothing":     {append(sample.Text(long), sample.Null()...), api.ErrLarge},
+		"too deep":                  {sample.Deep(33), api.ErrDeep},
+		"too deep in a map":         {sample.Map(sample.Pair("a", sample.Deep(32))), api.ErrDeep},
+		"deep, and nothing":         {append(sample.Deep(40), sample.Null()...), api.ErrArg},
+		"deepest that may be":       {sample.Deep(120), api.ErrDeep},
 	}
 }
 
