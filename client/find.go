@@ -11,6 +11,9 @@ import (
 	"cryptex/wire"
 )
 
+// mostBoxes is how many boxes a reply has room for.
+const mostBoxes = 800
+
 // finding is a question on its way.
 type finding struct {
 	c     *Client
@@ -62,11 +65,8 @@ func (f *finding) search() (string, model.Answer) {
 	}
 	// The server may see the tokens, whether its reply comes or not.
 	f.c.words[at] = chain.Searched(w)
-	return f.c.ask(wire.Request{Kind: askWords, Tokens: tokens}, func(r wire.Reply) (string, model.Answer) {
-		if !f.c.current(r) || r.Err != api.OK {
-			return f.c.wrong(r, false)
-		}
-		ids, err := chain.Ids(f.c.h, key, w, r.Boxes)
+	return f.c.boxes(tokens, nil, func(r wire.Reply, boxes []string) (string, model.Answer) {
+		ids, err := chain.Ids(f.c.h, key, w, boxes)
 		if err != api.OK {
 			return f.c.wrong(r, false)
 		}
@@ -74,6 +74,40 @@ func (f *finding) search() (string, model.Answer) {
 			f.told[id] = struct{}{}
 		}
 		return f.search()
+	})
+}
+
+// cells is how many cells tokens tell.
+func cells(l []chain.Token) int {
+	n := 0
+	for _, t := range l {
+		n += t.N
+	}
+	return n
+}
+
+// part are the first tokens, as many as one reply has boxes for.
+func part(l []chain.Token) []chain.Token {
+	for n := range l {
+		if cells(l[:n+1]) > mostBoxes {
+			return l[:n]
+		}
+	}
+	return l
+}
+
+// boxes asks for the boxes of tokens, and hands them on with the last reply, behind those that are there already: in one search, if a reply has room for them.
+func (c *Client) boxes(tokens []chain.Token, there []string, use func(wire.Reply, []string) (string, model.Answer)) (string, model.Answer) {
+	now := part(tokens)
+	return c.ask(wire.Request{Kind: askWords, Tokens: now}, func(r wire.Reply) (string, model.Answer) {
+		if !c.current(r) || r.Err != api.OK || len(r.Boxes) != cells(now) {
+			return c.wrong(r, false)
+		}
+		there, rest := slices.Concat(there, r.Boxes), tokens[len(now):]
+		if len(rest) > 0 {
+			return c.boxes(rest, there, use)
+		}
+		return use(r, there)
 	})
 }
 

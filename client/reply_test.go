@@ -440,6 +440,21 @@ func TestAWordOfManyCells(t *testing.T) {
 	})
 }
 
+func TestAWordOfMoreCellsThanAReplyHas(t *testing.T) {
+	w := newWorld(t, orac.Real())
+	w.want(create("c", "a"))
+	w.want(insert("last", `{"a":1}`))
+	for range 430 {
+		w.want(insert("x", `{"a":1}`))
+		w.want(remove("x"))
+	}
+	_, want := model.Do(w.m, eq("a", "1"))
+	if told := w.do(eq("a", "1")); !model.SameAnswer(told, want) && (told.Err == api.OK || told.Err != w.c.State().Closed) {
+		t.Errorf("%v", told)
+	}
+	w.labels()
+}
+
 func TestManySearches(t *testing.T) {
 	each(t, func(w *world) {
 		w.want(create("c", "a"))
