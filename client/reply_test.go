@@ -505,3 +505,29 @@ func TestABatchOfManyWords(t *testing.T) {
 	w.labels()
 	w.want(tell("1"))
 }
+
+func TestABatchOfMoreWordsThanItHolds(t *testing.T) {
+	w := newWorld(t, orac.Real())
+	w.want(create("c", "a.b", "a[0].b"))
+	text := func(from int) string {
+		var l []string
+		for i := range 105 {
+			l = append(l, strconv.Itoa(from+i))
+		}
+		return `{"a":[{"b":[` + strings.Join(l, ",") + `]}]}`
+	}
+	w.want(insert("1", text(0)))
+	now, _ := model.Do(w.m, replace("1", text(200)))
+	if w.do(replace("1", text(200))).Err != api.OK {
+		return // it may be told that there is no room
+	}
+	w.m = now
+	w.want(insert("2", `{"a":[{"b":[7,304]}]}`))
+	for _, v := range []string{"0", "7", "104", "200", "304"} {
+		w.want(eq("a.b", v))
+		w.want(eq("a[0].b", v))
+	}
+	w.want(remove("1"))
+	w.want(eq("a.b", "304"))
+	w.labels()
+}

@@ -122,11 +122,12 @@ func (c *Client) terms(at docAt, v []api.Node) []string {
 	return l
 }
 
-// room tells whether a batch has room for so many ops more than cells, and each word for one cell more.
-func (c *Client) room(at docAt, ops int, words []string) bool {
-	return ops+len(words) <= mostOps && !slices.ContainsFunc(words, func(word string) bool {
+// room are those of some words that have room for one cell more, as many as a batch has room for.
+func (c *Client) room(at docAt, words []string, most int) []string {
+	l := slices.DeleteFunc(slices.Clone(words), func(word string) bool {
 		return full(c.word(wordAt{c.epoch, at.coll, word}))
 	})
+	return l[:min(len(l), most)]
 }
 
 // number is how many of some things are so.
@@ -149,10 +150,13 @@ func (c *Client) write(at docAt, old, now []api.Node) (string, model.Answer) {
 		old = nil
 	}
 	came, went := term.Diff(c.terms(at, old), c.terms(at, now))
+	left := mostOps - number(takes, puts)
 	// What can't be asked for must not be sealed: another box would have its nonce.
-	if !c.room(at, number(takes, puts), slices.Concat(came, went)) {
+	if len(c.room(at, came, left)) < len(came) {
 		return answer(api.ErrFull)
 	}
+	// Where there is no room for a word that went, a search tells a document too many, that is asked for, and not found to be so.
+	went = c.room(at, went, left-len(came))
 	w := &writing{c: c, at: at, from: map[wordAt]chain.Word{}, to: map[wordAt]chain.Word{}}
 	if takes {
 		w.take(was.epoch)
