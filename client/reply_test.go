@@ -479,6 +479,33 @@ func TestManySearches(t *testing.T) {
 	})
 }
 
+func TestGenerationsThatAreUsedUp(t *testing.T) {
+	each(t, func(w *world) {
+		w.want(create("c", "a"))
+		w.want(insert("0", `{"a":[1,2]}`))
+		for i := range 25 {
+			id := strconv.Itoa(i%7 + 1)
+			a := insert(id, `{"a":[1,`+strconv.Itoa(i%3+1)+`]}`)
+			if i%5 == 4 {
+				a = replace("0", `{"a":[2,3]}`)
+			}
+			w.until(a, a.Kind)
+			w.c.Lost()
+			w.want(resync)
+			if w.h.Bad() {
+				w.t.Fatalf("bad behind %d batches that were lost", i)
+			}
+		}
+		for i, a := range []act{eq("a", "1"), insert("8", `{"a":[1,3]}`), eq("a", "1"), eq("a", "3"), remove("0"), eq("a", "1"), eq("a", "2"), insert("0", `{"a":[1,2]}`), replace("0", `{"a":1}`), eq("a", "1"), eq("a", "2"), rotate, rotate, eq("a", "1"), rotate, rotate, eq("a", "1"), all()} {
+			w.want(a)
+			w.labels()
+			if w.h.Bad() {
+				w.t.Fatalf("bad behind act %d", i)
+			}
+		}
+	})
+}
+
 func TestABatchOfManyWords(t *testing.T) {
 	w := newWorld(t, orac.Real())
 	w.want(create("c", "a.b.c", "a[0].b.c", "a.b[0].c", "a[0].b[0].c"))

@@ -79,6 +79,7 @@ func (c *Client) forget() {
 	for _, at := range c.oldWords() {
 		if chain.Total(c.words[at]) == 0 {
 			delete(c.words, at)
+			delete(c.burnt, at)
 		}
 	}
 	c.rotating = len(c.oldWords()) > 0

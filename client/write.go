@@ -25,30 +25,43 @@ const (
 	mostGenerations = 20
 )
 
-// another is a word in another generation, if there is one: what was asked for in the current one must not be asked for again.
+// another is a word in another generation: what was asked for in the current one must not be asked for again.
 func another(w chain.Word) chain.Word {
 	counts := slices.Clone(w.Counts)
 	if len(counts) == 0 {
 		counts = []int{0}
 	}
-	if len(counts) < mostGenerations {
-		counts = append(counts, 0)
-	}
-	return chain.Word{Counts: counts}
+	return chain.Word{Counts: append(counts, 0)}
 }
 
-// full tells whether the current generation has no room.
-func full(w chain.Word) bool {
-	return len(w.Counts) > 0 && w.Counts[len(w.Counts)-1] == mostCells
+// space is how many cells the current generation has room for.
+func space(w chain.Word) int {
+	if len(w.Counts) == 0 {
+		return mostCells
+	}
+	return mostCells - w.Counts[len(w.Counts)-1]
 }
 
 // word is a word as the next cell is added to it.
 func (c *Client) word(at wordAt) chain.Word {
 	w := c.words[at]
-	if full(w) {
+	if space(w) == 0 {
 		return chain.Searched(w)
 	}
 	return w
+}
+
+// sequel are the cells that tell one thing more of a word. What the server may have seen in their places stands there again, for no other box must have its nonce, and behind it what takes it back.
+func (c *Client) sequel(at wordAt, last cell) []cell {
+	l := slices.Clone(c.burnt[at])
+	for i, x := range c.burnt[at] {
+		same := func(y cell) bool { return y.id == x.id }
+		first := c.burnt[at][slices.IndexFunc(c.burnt[at], same)]
+		if !slices.ContainsFunc(c.burnt[at][i+1:], same) && first.gone == x.gone {
+			l = append(l, cell{!x.gone, x.id})
+		}
+	}
+	return append(l, last)
 }
 
 // writing is a batch that writes a document, on its way.
@@ -59,19 +72,24 @@ type writing struct {
 	next written               // the version that is put
 	from map[wordAt]chain.Word // the words ahead of it
 	to   map[wordAt]chain.Word // and behind
+	told map[wordAt][]cell     // and what is told of them
 }
 
-// cells adds a cell to each of some words.
+// cells adds to each of some words what tells that the document has it, or has it no more.
 func (w *writing) cells(words []string, gone bool) api.Errno {
 	for _, word := range words {
 		at := wordAt{w.c.epoch, w.at.coll, word}
-		before := w.c.word(at)
-		after, cell, err := chain.Add(w.c.h, w.c.wordKey(at), before, gone, w.at.id)
-		if err != api.OK {
-			return err
+		x := w.c.word(at)
+		w.from[at], w.told[at] = x, w.c.sequel(at, cell{gone, w.at.id})
+		for _, y := range w.told[at] {
+			after, box, err := chain.Add(w.c.h, w.c.wordKey(at), x, y.gone, y.id)
+			if err != api.OK {
+				return err
+			}
+			x = after
+			w.ops = append(w.ops, vault.Op{Kind: putCell, Label: box.Label, Box: box.Box})
 		}
-		w.from[at], w.to[at] = before, after
-		w.ops = append(w.ops, vault.Op{Kind: putCell, Label: cell.Label, Box: cell.Box})
+		w.to[at] = x
 	}
 	return api.OK
 }
@@ -97,6 +115,7 @@ func (w *writing) put(v []api.Node) api.Errno {
 func (w *writing) done(puts bool) {
 	for at, x := range w.to {
 		w.c.words[at] = x
+		delete(w.c.burnt, at)
 	}
 	if !puts {
 		delete(w.c.docs, w.at)
@@ -106,10 +125,15 @@ func (w *writing) done(puts bool) {
 	w.c.past[w.at] = append(w.c.past[w.at], w.next)
 }
 
-// undone lets the words go on elsewhere: the server may have seen the cells.
+// undone lets the words go on elsewhere, for the server may have seen the cells; where there is no other generation it is kept what they told.
 func (w *writing) undone() {
 	for at, x := range w.from {
-		w.c.words[at] = another(x)
+		if len(x.Counts) < mostGenerations {
+			w.c.words[at] = another(x)
+			continue
+		}
+		w.c.words[at] = x
+		w.c.burnt[at] = w.told[at]
 	}
 }
 
@@ -122,12 +146,17 @@ func (c *Client) terms(at docAt, v []api.Node) []string {
 	return l
 }
 
-// room are those of some words that have room for one cell more, as many as a batch has room for.
-func (c *Client) room(at docAt, words []string, most int) []string {
-	l := slices.DeleteFunc(slices.Clone(words), func(word string) bool {
-		return full(c.word(wordAt{c.epoch, at.coll, word}))
-	})
-	return l[:min(len(l), most)]
+// room are those of some words for whose cells there is room, in their generations and in a batch, and how many ops are left then.
+func (c *Client) room(at docAt, words []string, left int) ([]string, int) {
+	var l []string
+	for _, word := range words {
+		place := wordAt{c.epoch, at.coll, word}
+		many := len(c.sequel(place, cell{}))
+		if many <= min(left, space(c.word(place))) {
+			l, left = append(l, word), left-many
+		}
+	}
+	return l, left
 }
 
 // number is how many of some things are so.
@@ -150,14 +179,14 @@ func (c *Client) write(at docAt, old, now []api.Node) (string, model.Answer) {
 		old = nil
 	}
 	came, went := term.Diff(c.terms(at, old), c.terms(at, now))
-	left := mostOps - number(takes, puts)
 	// What can't be asked for must not be sealed: another box would have its nonce.
-	if len(c.room(at, came, left)) < len(came) {
+	fit, left := c.room(at, came, mostOps-number(takes, puts))
+	if len(fit) < len(came) {
 		return answer(api.ErrFull)
 	}
 	// Where there is no room for a word that went, a search tells a document too many, that is asked for, and not found to be so.
-	went = c.room(at, went, left-len(came))
-	w := &writing{c: c, at: at, from: map[wordAt]chain.Word{}, to: map[wordAt]chain.Word{}}
+	went, _ = c.room(at, went, left)
+	w := &writing{c: c, at: at, from: map[wordAt]chain.Word{}, to: map[wordAt]chain.Word{}, told: map[wordAt][]cell{}}
 	if takes {
 		w.take(was.epoch)
 	}
