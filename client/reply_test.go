@@ -483,7 +483,7 @@ func TestGenerationsThatAreUsedUp(t *testing.T) {
 	each(t, func(w *world) {
 		w.want(create("c", "a"))
 		w.want(insert("0", `{"a":[1,2]}`))
-		for i := range 25 {
+		for i := range 24 {
 			id := strconv.Itoa(i%7 + 1)
 			a := insert(id, `{"a":[1,`+strconv.Itoa(i%3+1)+`]}`)
 			if i%5 == 4 {
